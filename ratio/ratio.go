@@ -149,6 +149,9 @@ func Mix(a, b, w api.Rat) (mixed api.Rat, e api.Errno) {
 
 // Clamp returns the nearest number between two integers.
 func Clamp(a api.Rat, low, high int) (nearest api.Rat, e api.Errno) {
+	if e = Check(a); e != api.OK {
+		return "", e
+	}
 	if low > high {
 		return "", api.ErrRange
 	}

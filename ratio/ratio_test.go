@@ -356,7 +356,7 @@ func TestClampErrors(t *testing.T) {
 		low, high int
 		want      api.Errno
 	}{
-		{"1", 2, 1, api.ErrRange}, {"1", math.MaxInt, math.MinInt, api.ErrRange}, {"x", 2, 1, api.ErrRange},
+		{"1", 2, 1, api.ErrRange}, {"1", math.MaxInt, math.MinInt, api.ErrRange},
 		{tiny, 20, 10, api.ErrRange}, {"x", 1, 2, api.ErrForm}, {long + "9", 1, 2, api.ErrLarge},
 		{tiny, 10, 20, api.ErrLarge}, {tiny, -10, 1, api.ErrLarge}, {tiny, 0, 10, api.ErrLarge}, {tiny, 1, 10, api.ErrLarge},
 		{tiny, -9, 9, api.OK},
@@ -365,6 +365,27 @@ func TestClampErrors(t *testing.T) {
 		got, e := ratio.Clamp(test.a, test.low, test.high)
 		if e != test.want || (e != api.OK && got != "") {
 			t.Errorf("Clamp(%q, %d, %d): got %q, %d, want %d", short(test.a), test.low, test.high, short(got), e, test.want)
+		}
+	}
+}
+
+// TestClampChecksItsNumberFirst has low greater than high: only a right number comes as far as ErrRange.
+func TestClampChecksItsNumberFirst(t *testing.T) {
+	long := repeat("9", api.MaxLong)
+	large := long + "9"
+	tests := map[api.Rat]api.Errno{
+		"": api.ErrForm, "x": api.ErrForm, "-0": api.ErrForm, "01": api.ErrForm, "2/4": api.ErrForm, "3/1": api.ErrForm,
+		"1/-2": api.ErrForm, "1/0": api.ErrForm, large + "/1": api.ErrForm, "01/" + large: api.ErrForm,
+		large: api.ErrLarge, "-" + large: api.ErrLarge, large + "/2": api.ErrLarge, "1/" + large: api.ErrLarge,
+		"0": api.ErrRange, "7": api.ErrRange, "-3/2": api.ErrRange, "1/2": api.ErrRange, long: api.ErrRange,
+		"1/" + long: api.ErrRange,
+	}
+	bounds := []struct{ low, high int }{{0, -1}, {1, 0}, {5, 3}, {20, 10}, {-10, -20}, {math.MaxInt, math.MinInt}}
+	for a, want := range tests {
+		for _, b := range bounds {
+			if got, e := ratio.Clamp(a, b.low, b.high); got != "" || e != want {
+				t.Errorf("Clamp(%q, %d, %d): got %q, %d, want %d", short(a), b.low, b.high, short(got), e, want)
+			}
 		}
 	}
 }
