@@ -21,7 +21,7 @@ func sampleColour(r *rand.Rand) [3]int {
 	return rgb
 }
 
-// palettes returns all lists of primaries in ascending order, without an order of errors: any of the 8 may be there.
+// palettes returns all lists of different primaries in ascending order, whether they can make a colour or not.
 func palettes() [][]int {
 	var l [][]int
 	for set := range 1 << 8 {

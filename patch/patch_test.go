@@ -107,7 +107,7 @@ func ofFixture(name string, want api.Errno, change func(x *api.Fixture)) fault {
 	return fault{name, want, func(l *fixtures, _ *profiles) { change(&(*l)[3]) }}
 }
 
-// faults returns the faults of each kind, in the order in which the document lists the errors. Those of one kind have one error.
+// faults returns one fault or more of each kind, in the order in which the document lists the errors.
 func faults() [][]fault {
 	return [][]fault{
 		{{"many profiles", api.ErrMany, func(_ *fixtures, p *profiles) { *p = append(*p, make(profiles, api.MaxProfiles+1-len(*p))...) }}},
