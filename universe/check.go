@@ -6,6 +6,7 @@ import (
 	"luminaire/api"
 	"luminaire/curve"
 	"luminaire/glide"
+	"luminaire/parameter"
 	"luminaire/profile"
 )
 
@@ -53,28 +54,20 @@ func checkBoth(g Rig, l []api.Frame) api.Errno {
 	return Right(l)
 }
 
-// checkParam returns OK for parameters.
-func checkParam(p api.Param) api.Errno {
-	if !isFrom1(p.Channel, api.MaxChannel) || p.Attr < 0 || p.Attr >= api.Attrs {
-		return api.ErrRange
-	}
-	return api.OK
-}
-
 // checkAmounts returns the error of amounts.
 func checkAmounts(l []api.Amount) api.Errno {
 	if len(l) > api.MaxEvents {
 		return api.ErrMany
 	}
 	for i, a := range l {
-		if e := checkParam(a.Param); e != api.OK {
+		if e := parameter.Check(a.Param); e != api.OK {
 			return e
 		}
 		// The computed levels are the numbers from which a glide may begin.
 		if e := glide.Check(api.Glide{From: a.Level}); e != api.OK {
 			return e
 		}
-		if i > 0 && compareParams(a.Param, l[i-1].Param) <= 0 {
+		if i > 0 && parameter.Compare(a.Param, l[i-1].Param) <= 0 {
 			return api.ErrOrder
 		}
 	}
@@ -97,11 +90,6 @@ func checkChanges(p pages, l []Change) api.Errno {
 		}
 	}
 	return api.OK
-}
-
-// compareParams compares parameters by their channels, and then by their attributes.
-func compareParams(a, b api.Param) int {
-	return cmp.Or(cmp.Compare(a.Channel, b.Channel), cmp.Compare(a.Attr, b.Attr))
 }
 
 // compareChanges compares changes by their universes, and then by their addresses.
